@@ -1,0 +1,1 @@
+"""Springways: pipes from a spring."""
