@@ -12,6 +12,12 @@ def check_place(net, place):
         raise NoPlace(f"no place of the net: {place}")
 
 
+def check_pipe(net, pipe):
+    # An index below nought would reach a pipe from the end of the list.
+    if pipe < 0 or pipe >= len(net.pipes()):
+        raise NoPipe(f"no pipe has the number {pipe}")
+
+
 class Net:
     def __init__(self, size):
         if size < 1 or size > MOST_PLACES:
@@ -40,9 +46,7 @@ class Net:
         self.turn(pipe, True)
 
     def turn(self, pipe, opened):
-        # An index below nought would reach a pipe from the end of the list.
-        if pipe < 0 or pipe >= len(self.laid):
-            raise NoPipe(f"no pipe has the number {pipe}")
+        check_pipe(self, pipe)
         row = self.laid[pipe]
         self.laid[pipe] = (row[0], row[1], opened)
 

@@ -47,6 +47,45 @@ def all_nets():
     yield from mixed_nets()
 
 
+def few_pipes_nets():
+    """Nets with so few pipes that all sets of them can be gone over, several alike among them."""
+    source = random.Random(8)
+    for turn in range(150):
+        size = 2 + turn % 4
+        rows = []
+        for step in range(source.randrange(4, 10)):
+            start, goal = source.sample(range(size), 2)
+            rows.append((start, goal, source.random() < 0.9))
+        yield net_of(size, rows)
+
+
+def tree_rows(source, size):
+    """The pipes of one tree, which comes to the places in a mixed order."""
+    order = list(range(1, size))
+    source.shuffle(order)
+    wet = [0]
+    rows = []
+    for place in order:
+        rows.append((source.choice(wet), place, True))
+        wet.append(place)
+    return rows
+
+
+def tree_nets():
+    """Pairs of a number and a net that was made of so many trees, some with pipes more, in a mixed order of pipes."""
+    source = random.Random(88)
+    for turn in range(240):
+        size = 2 + turn % 11
+        many = 1 + turn // 11 % 5
+        rows = [row for step in range(many) for row in tree_rows(source, size)]
+        for step in range(source.choice((0, 0, 3, 60 - len(rows)))):
+            if len(rows) < 60:
+                start, goal = source.sample(range(size), 2)
+                rows.append((start, goal, source.random() < 0.7))
+        source.shuffle(rows)
+        yield many, net_of(size, rows)
+
+
 def wet_places(size, rows):
     """The places that water comes to, by going over all pipes until nothing is new."""
     wet = {0}
@@ -80,3 +119,58 @@ def is_way(rows, row, place):
             return False
         at = goal
     return at == place
+
+
+def enter_count(rows, places):
+    """How many open pipes enter the set."""
+    return len([1 for start, goal, opened in rows if opened and goal in places and start not in places])
+
+
+def sets_without_spring(size):
+    """Every set of places, one at least, without the spring."""
+    for many in range(1, size):
+        for places in itertools.combinations(range(1, size), many):
+            yield frozenset(places)
+
+
+def least_entering(size, rows):
+    """Of each place but the spring, the least number of open pipes that enter any set with it, without the spring."""
+    least = {place: len(rows) for place in range(1, size)}
+    for places in sets_without_spring(size):
+        count = enter_count(rows, places)
+        for place in places:
+            least[place] = min(least[place], count)
+    return least
+
+
+def all_ways(rows, place, row=(), at=0):
+    """Every way to the place, as a tuple of pipes."""
+    if at == place:
+        yield row
+    for pipe, (start, goal, opened) in enumerate(rows):
+        if opened and start == at and pipe not in row:
+            yield from all_ways(rows, place, row + (pipe,), goal)
+
+
+def is_tree_by_words(size, rows, pipes):
+    """Point 7 word by word."""
+    if not all(rows[pipe][2] for pipe in pipes):
+        return False
+    alone = [(start, goal, opened and pipe in pipes) for pipe, (start, goal, opened) in enumerate(rows)]
+    enter = [len([pipe for pipe in pipes if rows[pipe][1] == place]) for place in range(size)]
+    return wet_places(size, alone) == list(range(size)) and enter == [0] + [1] * (size - 1)
+
+
+def pipe_sets(rows):
+    """Every set of pipes, as a tuple."""
+    for many in range(len(rows) + 1):
+        yield from itertools.combinations(range(len(rows)), many)
+
+
+def most_disjoint(groups, taken=frozenset()):
+    """The greatest number of groups with nothing in two of them, by trying all."""
+    best = 0
+    for at, group in enumerate(groups):
+        if not taken & set(group):
+            best = max(best, 1 + most_disjoint(groups[at + 1:], taken | set(group)))
+    return best

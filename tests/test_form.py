@@ -1,6 +1,7 @@
 """The rules of form that can be seen from a file's text and tree."""
 
 import ast
+import builtins
 import pathlib
 import re
 import unittest
@@ -54,6 +55,26 @@ def bound_names(tree):
             names.add(node.name)
         elif isinstance(node, ast.ExceptHandler) and node.name:
             names.add(node.name)
+    return names
+
+
+def imported(tree):
+    return {name.name for row in tree.body if isinstance(row, ast.ImportFrom) for name in row.names}
+
+
+def drawn_from(tree):
+    return {row.module.split(".")[1] for row in tree.body if isinstance(row, ast.ImportFrom)}
+
+
+def locals_of(tree):
+    """The names of all parameters and locals of a file."""
+    names = set()
+    for node in ast.walk(tree):
+        if isinstance(node, (ast.FunctionDef, ast.Lambda)):
+            names |= {inner.arg for inner in ast.walk(node) if isinstance(inner, ast.arg)}
+            names |= {inner.id for inner in ast.walk(node)
+                      if isinstance(inner, ast.Name) and isinstance(inner.ctx, ast.Store)}
+            names |= {inner.name for inner in ast.walk(node) if isinstance(inner, ast.ExceptHandler) and inner.name}
     return names
 
 
@@ -114,8 +135,7 @@ class FormTest(unittest.TestCase):
                         self.assertEqual(node.level, 0)
                         self.assertRegex(node.module, r"^springways\.[a-z]+$")
                         origin = ast.parse((ROOT / (node.module.replace(".", "/") + ".py")).read_text())
-                        own = bound_names(origin) - {name.name for row in origin.body
-                                                     if isinstance(row, ast.ImportFrom) for name in row.names}
+                        own = bound_names(origin) - imported(origin)
                         for name in node.names:
                             self.assertIn(name.name, own)
                             self.assertIsNone(name.asname)
@@ -152,6 +172,52 @@ class FormTest(unittest.TestCase):
                     elif isinstance(node, ast.Attribute) and isinstance(node.ctx, ast.Store):
                         values.add(node.attr)
         self.assertEqual(methods & values, set())
+
+    def test_no_local_is_called_like_a_class_an_import_or_a_name_of_pythons_own(self):
+        for file, text, tree in parsed():
+            with self.subTest(file=file):
+                classes = {node.name for node in tree.body if isinstance(node, ast.ClassDef)}
+                self.assertEqual(locals_of(tree) & (classes | imported(tree) | set(dir(builtins))), set())
+
+    def test_names_of_the_top_are_bound_once(self):
+        for file, text, tree in parsed():
+            with self.subTest(file=file):
+                names = sorted(imported(tree))
+                for node in tree.body:
+                    if isinstance(node, (ast.FunctionDef, ast.ClassDef)):
+                        names.append(node.name)
+                    elif isinstance(node, ast.Assign):
+                        names.append(node.targets[0].id)
+                self.assertEqual(len(set(names)), len(names))
+
+    def test_no_two_files_draw_from_one_another(self):
+        drawn = {file[:-3]: drawn_from(tree) for file, text, tree in parsed()}
+        done = set()
+        while len(done) < len(drawn):
+            free = {file for file in drawn if file not in done and drawn[file] <= done}
+            self.assertNotEqual(free, set(), drawn)
+            done |= free
+
+    def test_narrow_forms(self):
+        for file, text, tree in parsed():
+            with self.subTest(file=file):
+                for node in ast.walk(tree):
+                    if isinstance(node, ast.Assign):
+                        self.assertEqual(len(node.targets), 1)
+                        self.assertNotIsInstance(node.targets[0], (ast.Tuple, ast.List))
+                    elif isinstance(node, ast.ListComp):
+                        self.assertEqual(len(node.generators), 1)
+                        self.assertLessEqual(len(node.generators[0].ifs), 1)
+                    elif isinstance(node, ast.FormattedValue):
+                        self.assertIsInstance(node.value, ast.Name)
+                        self.assertIsNone(node.format_spec)
+                    elif isinstance(node, ast.Compare) and isinstance(node.ops[0], (ast.Is, ast.IsNot)):
+                        self.assertIsInstance(node.comparators[0], ast.Constant)
+                    elif isinstance(node, (ast.For, ast.While, ast.Try)):
+                        self.assertEqual(getattr(node, "finalbody", []), [])
+                        self.assertTrue(isinstance(node, ast.Try) or node.orelse == [])
+                    elif isinstance(node, ast.Constant) and isinstance(node.value, str):
+                        self.assertNotIn("%", node.value)
 
     def test_arguments_are_plain(self):
         for file, text, tree in parsed():
